@@ -3,6 +3,7 @@ package store_test
 import (
 	"bytes"
 	"fmt"
+	"hash/crc32"
 	"math"
 	"math/rand"
 	"reflect"
@@ -44,7 +45,8 @@ func piece(key string, at, n int) api.Call {
 func state(s *store.Store) string {
 	text := fmt.Sprint(s.Now(), s.Keys(), s.Uploads(), s.Size())
 	for _, key := range s.Keys() {
-		text += fmt.Sprint(s.Do(get(key)))
+		r := s.Do(get(key))
+		text += fmt.Sprint(key, r.Ver, r.Born, len(r.Data), crc32.ChecksumIEEE(r.Data))
 	}
 	for id := 0; ; {
 		r := s.Do(opened(id))

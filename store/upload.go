@@ -18,7 +18,7 @@ func (s *Store) create(c api.Call) api.Reply {
 		return failed(api.ErrFull)
 	}
 	s.id++
-	s.uploads[s.id] = upload{key: c.Key, born: s.now, parts: map[int]string{}}
+	s.uploads[s.id] = upload{key: c.Key, born: s.now, parts: map[int]part{}}
 	return api.Reply{ID: s.id, Born: s.now}
 }
 
@@ -32,11 +32,11 @@ func (s *Store) part(c api.Call) api.Reply {
 		return failed(api.ErrArg)
 	case len(c.Data) > api.MaxData:
 		return failed(api.ErrLong)
-	case !s.holds(len(c.Data) - len(u.parts[c.N])):
+	case !s.holds(len(c.Data) - len(u.parts[c.N].data)):
 		return failed(api.ErrFull)
 	}
-	s.size += len(c.Data) - len(u.parts[c.N])
-	u.parts[c.N] = string(c.Data)
+	s.size += len(c.Data) - len(u.parts[c.N].data)
+	u.parts[c.N] = part{data: string(c.Data)}
 	return api.Reply{}
 }
 
@@ -51,11 +51,11 @@ func (s *Store) complete(c api.Call) api.Reply {
 	}
 	var data strings.Builder
 	for i := range c.N {
-		part, ok := u.parts[i+1]
+		p, ok := u.parts[i+1]
 		if !ok {
 			return failed(api.ErrForm)
 		}
-		data.WriteString(part)
+		data.WriteString(p.data)
 	}
 	if data.Len() > api.MaxData {
 		return failed(api.ErrLong)
@@ -85,8 +85,8 @@ func (s *Store) drop(id int) {
 // size is how many bytes its parts have.
 func (u upload) size() int {
 	n := 0
-	for _, part := range u.parts {
-		n += len(part)
+	for _, p := range u.parts {
+		n += len(p.data)
 	}
 	return n
 }
