@@ -191,29 +191,44 @@ func TestP11_1Errors(t *testing.T) {
 	}
 }
 
-func TestP11_1Bound(t *testing.T) {
-	// Near the bound the block is told until it has more than MaxData bytes.
+// heavy are so many rows, the last one with a text of so many bytes, and how many bytes their block has.
+func heavy(n, last int) ([]api.Row, int) {
+	r := rand.New(rand.NewSource(9))
 	var l []api.Row
-	for i := range api.MaxRows {
+	for i := range n {
 		x := row(i)
-		text := make([]byte, 150)
-		rand.New(rand.NewSource(int64(i))).Read(text)
-		x.Text = string(text)
+		text := make([]byte, api.MaxText)
+		r.Read(text)
+		x.Text = string(text[:150])
+		if i == n-1 {
+			x.Text = string(text[:last])
+		}
 		l = append(l, x)
 	}
-	low, high := 1, len(l)
-	for low+1 < high {
-		n := (low + high) / 2
-		if b, e := block.Build(l[:n], 256); e == api.OK && len(b) <= api.MaxData {
-			low = n
-		} else {
-			high = n
-		}
+	front, x := parts(l, api.MaxGroup)
+	return l, len(whole(front, x))
+}
+
+func TestP11_1Bound(t *testing.T) {
+	n := 1000
+	_, none := heavy(n, 0)
+	for none < api.MaxData-190 {
+		n += 1 + (api.MaxData-190-none)/200
+		_, none = heavy(n, 0)
 	}
-	b, e := block.Build(l[:low], 256)
-	front, x := parts(l[:high], 256)
-	if e != api.OK || len(b) < api.MaxData-400 || len(whole(front, x)) <= api.MaxData {
-		t.Error(low, high, len(b), e)
+	for _, size := range []int{api.MaxData - 1, api.MaxData, api.MaxData + 1} {
+		l, got := heavy(n, size-none)
+		if got != size {
+			// The text's length itself has one byte more.
+			l, got = heavy(n, size-none-1)
+		}
+		if got != size {
+			t.Fatal("no rows make just so many bytes", got, size)
+		}
+		b, e := block.Build(l, api.MaxGroup)
+		if size <= api.MaxData && (e != api.OK || len(b) != size) || size > api.MaxData && (e != api.ErrLong || len(b) != 0) {
+			t.Error(size, len(b), e)
+		}
 	}
 }
 
@@ -359,6 +374,21 @@ func TestP11_3Read(t *testing.T) {
 	}
 	if got, e := block.Read(change(func(*block.Index) {})); e != api.OK || !same(got, l) {
 		t.Error("unchanged", e)
+	}
+}
+
+func TestP11_3ReadBeyond(t *testing.T) {
+	var l []api.Row
+	for i := range 60 {
+		l = append(l, row(i))
+	}
+	front, x := parts(l, 3)
+	for i, s := range []block.Span{{At: len(front), Size: len(front)}, {At: len(front) - 1, Size: 2}, {At: len(front), Size: 0}, {At: 5, Size: api.MaxData}, {At: api.MaxData, Size: api.MaxData}} {
+		s.Rows, s.First, s.Last = 3, 57, 59
+		y := block.Index{Spans: append(slices.Clone(x.Spans[:19]), s), Postings: x.Postings}
+		if got, e := block.Read(whole(front, y)); e != api.ErrForm || len(got) != 0 {
+			t.Error(i, e)
+		}
 	}
 }
 

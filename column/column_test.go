@@ -264,6 +264,9 @@ func TestP10_3Of(t *testing.T) {
 	if s := column.Of([]string{"b", "", "\xff", "a"}); s != (column.Stats[string]{Rows: 4, Least: "", Most: "\xff"}) {
 		t.Error("of texts", s)
 	}
+	if s := column.Of([]int{7}); s != (column.Stats[int]{Rows: 1, Least: 7, Most: 7}) || !s.May(7, 7) || s.May(8, 9) || s.May(0, 6) {
+		t.Error("of one", s)
+	}
 	if s := column.Of([]float64{0.5, -0.5}); s.Least != -0.5 || s.Most != 0.5 || s.Rows != 2 {
 		t.Error("of floats", s)
 	}
@@ -317,6 +320,36 @@ func TestP10_4ThereAndBack(t *testing.T) {
 			t.Fatal("unlike columns, one chunk")
 		}
 		seen[string(b)] = texts
+	}
+}
+
+func TestP10_4Bounds(t *testing.T) {
+	// Columns that are as great as may be are read again.
+	var many []string
+	for i := range api.MaxRows {
+		many = append(many, string([]byte{byte(i), byte(i >> 8)}))
+	}
+	word := strings.Repeat("w", api.MaxWord)
+	full := append(slices.Repeat([]string{word}, 63), word[:1024-1-2*64])
+	for i, l := range [][]string{many, {word}, {word, "", word}, full, slices.Repeat([]string{"x"}, api.MaxRows)} {
+		b, e := column.PutTexts(l)
+		if back, f := column.Texts(b); e != api.OK || f != api.OK || !slices.Equal(back, l) {
+			t.Error("texts", i, e, f)
+		}
+		b, e = column.PutWords(l)
+		if back, f := column.Words(b); e != api.OK || f != api.OK || !slices.Equal(back, l) {
+			t.Error("words", i, e, f)
+		}
+	}
+	flags := slices.Repeat([]bool{true, false, true, true}, api.MaxRows/4)
+	b, e := column.PutFlags(flags)
+	if back, f := column.Flags(b); e != api.OK || f != api.OK || !slices.Equal(back, flags) {
+		t.Error("flags", e, f)
+	}
+	ints := slices.Repeat([]int64{api.MaxInt, -api.MaxInt}, api.MaxRows/2)
+	b, e = column.PutInts(ints)
+	if back, f := column.Ints(b); e != api.OK || f != api.OK || !slices.Equal(back, ints) {
+		t.Error("integers", e, f)
 	}
 }
 

@@ -300,7 +300,7 @@ func TestP18_3Memory(t *testing.T) {
 	}
 	c.Take(put, 0)
 	m = c.Manifest()
-	m.Entries[0].Key = "x"
+	m.Entries[0].Key, m.Marks[0].Seq, m.Owners[0].Life = "x", 99, 99
 	if !same(c.Manifest(), apply(other, want)) {
 		t.Error("Manifest shares memory")
 	}

@@ -5,6 +5,7 @@ import (
 	"compress/flate"
 	"math"
 	"math/rand"
+	"slices"
 	"strings"
 	"testing"
 
@@ -47,13 +48,17 @@ func squeezed(b []byte, level int) []byte {
 	return buffer.Bytes()
 }
 
-// text writes a squeezed text by hand.
-type text struct{ w bits.Writer }
+// text writes a squeezed text by hand, and counts its bits.
+type text struct {
+	w bits.Writer
+	n int
+}
 
 // bits writes numbers, each with how many bits it has.
 func (s *text) bits(l ...int) *text {
 	for i := 0; i < len(l); i += 2 {
 		s.w.Bits(uint32(l[i]), l[i+1])
+		s.n += l[i+1]
 	}
 	return s
 }
@@ -70,6 +75,7 @@ func (s *text) words(lengths []int, symbols ...int) *text {
 			panic("no word")
 		}
 		s.w.Code(word, n)
+		s.n += n
 	}
 	return s
 }
@@ -293,6 +299,87 @@ func TestP6_1DynamicErrors(t *testing.T) {
 	check(t, "more noughts than there are", z.bits(0, 3).bytes(), 9, "", 0, api.ErrForm)
 	z = dynamic(257, 1, third()).words(third(), 18).bits(127, 7).words(third(), 18).bits(118-11, 7).words(third(), 1, 16)
 	check(t, "more again than there are", z.bits(0, 2, 0, 32).bytes(), 9, "", 0, api.ErrForm)
+}
+
+func TestP6_1AllLengths(t *testing.T) {
+	// All lengths from 1 to 15 are told, each by a word of 4 bits.
+	third := append(repeat(4, 16), 0, 0, 0)
+	letters := repeat(0, 257)
+	want := ""
+	for i := range 14 {
+		letters[i] = i + 1
+		want += string([]byte{byte(i)})
+	}
+	letters[14], letters[256] = 15, 15
+	z := dynamic(257, 1, third)
+	for _, n := range append(slices.Clone(letters), 0) {
+		z.words(third, n)
+	}
+	for i := range 15 {
+		z.words(letters, i)
+	}
+	z.words(letters, 256)
+	check(t, "all lengths", z.bytes(), 15, want+"\x0e", len(z.bytes()), api.OK)
+}
+
+func TestP6_1LengthsBeyond(t *testing.T) {
+	// Each of these would be right, were the lengths beyond the last one left out.
+	letters := repeat(0, 257)
+	letters[255], letters[256] = 1, 1
+	for _, symbol := range []int{16, 17, 18} {
+		z := noughts(dynamic(257, 1, third()), 255).words(third(), 1, 1)
+		bits := map[int]int{16: 2, 17: 3, 18: 7}[symbol]
+		z.words(third(), symbol).bits(0, bits).words(letters, 256).bits(0, 32)
+		check(t, "more lengths than there are", z.bytes(), 9, "", 0, api.ErrForm)
+	}
+}
+
+func TestP6_1EndsWithin(t *testing.T) {
+	// The bits end within what a symbol has more; were these bits 0, all would be over with another error.
+	begin := func(k, letters, distances int) *text {
+		z := new(text).bits(0, 1, 1, 2)
+		for range k {
+			z.words(fixedLetters(), 255)
+		}
+		z.words(fixedLetters(), 256).bits(1, 1, 2, 2, letters-257, 5, distances-1, 5, 15, 4)
+		for _, n := range inOrder(third()) {
+			z.bits(n, 3)
+		}
+		return z
+	}
+	left := func(z *text) int { return 8*len(z.bytes()) - z.n }
+	letters := repeat(0, 285)
+	letters[256], letters[284] = 1, 1
+	seen := [2]int{}
+	for k := range 4 {
+		z := noughts(begin(k, 257, 1), 247).words(third(), 18)
+		if left(z) < 7 {
+			seen[0]++
+			check(t, "within a repetition's number", z.bytes(), 99, "", 0, api.ErrShort)
+		}
+		z = noughts(begin(k, 285, 4), 256).words(third(), 1, 17).bits(7, 3).words(third(), 17).bits(7, 3).words(third(), 17).bits(4, 3)
+		z.words(third(), 1, 0, 0, 0, 1).words(letters, 284)
+		if n := left(z); n > 0 && n < 5 {
+			seen[1]++
+			check(t, "within a length's number", z.bytes(), 99, "", 0, api.ErrShort)
+		}
+	}
+	if seen[0] == 0 || seen[1] == 0 {
+		t.Error("no such end", seen)
+	}
+}
+
+func TestP6_1DistancesWithoutMeaning(t *testing.T) {
+	stored := append([]byte{0, 0x60, 0xea, 0x9f, 0x15}, make([]byte, 60000)...)
+	for d := 28; d < 32; d++ {
+		z := new(text).bits(1, 1, 1, 2).words(fixedLetters(), 257).words(repeat(5, 32), d).bits(0, d/2-1).words(fixedLetters(), 256).bytes()
+		all := append(bytes.Clone(stored), z...)
+		if d < 30 {
+			check(t, "a distance", all, api.MaxRaw, string(make([]byte, 60003)), len(all), api.OK)
+		} else {
+			check(t, "no distance", all, api.MaxRaw, "", 0, api.ErrForm)
+		}
+	}
 }
 
 func TestP6_1OrderOfErrors(t *testing.T) {

@@ -112,6 +112,7 @@ func wrongManifests() []api.Manifest {
 		change(func(m *api.Manifest) { m.Cut = n })
 		change(func(m *api.Manifest) { m.Fence = n })
 	}
+	l = append(l, api.Manifest{Cut: api.MaxNum}, api.Manifest{Cut: math.MaxInt})
 	change(func(m *api.Manifest) { m.Cut = 3 })
 	change(func(m *api.Manifest) { m.Entries = manyEntries(api.MaxEntries + 1) })
 	change(func(m *api.Manifest) { m.Entries[1].Key = "b/1" })

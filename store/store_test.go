@@ -165,6 +165,7 @@ func TestP14_1Room(t *testing.T) {
 	if s.Size() != api.MaxStore-1 {
 		t.Fatal(s.Size())
 	}
+	do(t, s, part(1, 1, most[1:]), api.Reply{})
 	do(t, s, put("z", "xx"), wrong(api.ErrFull))
 	do(t, s, putIf("z", "xx", 0), wrong(api.ErrFull))
 	do(t, s, part(1, 2, "xx"), wrong(api.ErrFull))
