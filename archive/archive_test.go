@@ -541,6 +541,13 @@ func TestP19_2AllDup(t *testing.T) {
 		t.Error("it counts twice")
 	}
 	submit(t, b, batch(1, 4, 1), 0, api.ErrDup)
+	submit(t, b, batch(1, 5, 2), 0, api.OK)
+	b.Flush()
+	steps(t, b, s)
+	outcomes(t, b, api.Outcome{Maker: 1, Seq: 5})
+	if !same(rowsOf(t, s, conf()), rows(batch(1, 4, 1), batch(2, 4, 1), batch(1, 5, 2))) {
+		t.Error("the next wave")
+	}
 }
 
 func TestP19_2Fence(t *testing.T) {

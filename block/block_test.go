@@ -2,6 +2,7 @@ package block_test
 
 import (
 	"bytes"
+	"fmt"
 	"math"
 	"math/rand"
 	"slices"
@@ -261,9 +262,16 @@ func TestP11_2Ends(t *testing.T) {
 func TestP11_2Foot(t *testing.T) {
 	good := block.Index{
 		Spans:    []block.Span{{At: 5, Size: api.MaxData, Rows: 2, First: 0, Last: api.MaxNum - 1}, {At: api.MaxData, Size: 0, Rows: api.MaxData, First: api.MaxNum - 1}},
-		Postings: []block.Posting{{Text: "{}", Groups: []int{0, 1}}, {Text: strings.Repeat("x", api.MaxWord), Groups: []int{api.MaxData}}, {Text: "{a=\"\"}"}},
+		Postings: []block.Posting{{Text: strings.Repeat("x", api.MaxWord), Groups: []int{0, 1, api.MaxData}}, {Text: "{a=\"\"}", Groups: []int{1}}, {Text: "{}", Groups: []int{0}}},
 	}
-	for _, x := range []block.Index{{}, good, {Spans: make([]block.Span, api.MaxRows)}, {Postings: make([]block.Posting, api.MaxRows)}, {Postings: []block.Posting{{Groups: make([]int, api.MaxRows)}}}} {
+	many := block.Index{Spans: make([]block.Span, api.MaxRows)}
+	var all []int
+	for i := range api.MaxRows {
+		many.Spans[i] = block.Span{At: 5 + i, Size: 1, Rows: 1, First: i, Last: i}
+		many.Postings = append(many.Postings, block.Posting{Text: fmt.Sprintf("{a=\"%04d\"}", i), Groups: []int{i}})
+		all = append(all, i)
+	}
+	for _, x := range []block.Index{{}, good, many, {Spans: many.Spans, Postings: []block.Posting{{Text: "{}", Groups: all}}}} {
 		if got, e := block.Foot(crc.Seal(indexBytes(x))); e != api.OK || !sameIndex(got, x) {
 			t.Error(len(x.Spans), len(x.Postings), e)
 		}

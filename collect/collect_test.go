@@ -263,6 +263,31 @@ func TestP22_1Pages(t *testing.T) {
 	}
 }
 
+func TestP22_1ShortPages(t *testing.T) {
+	// A page with more behind it may be of any size.
+	s := store.New()
+	for i := range 3 {
+		put(s, fmt.Sprint("b/", i))
+		create(s, "b/u")
+	}
+	keep(s)
+	s.Tick(9)
+	a := collect.New(1, 1, conf())
+	a.Begin()
+	l := round(t, a, s, func(c api.Call) (api.Reply, bool) {
+		if c.Kind != api.List && c.Kind != api.Opened {
+			return api.Reply{}, false
+		}
+		r := s.Do(c)
+		r.More = len(r.List) > 1
+		r.List = r.List[:min(1, len(r.List))]
+		return r, true
+	})
+	if told(l) != "get, putif, list b/>, list b/>b/0, list b/>b/1, get, delete b/0, delete b/1, delete b/2, opened 0, opened 1, opened 2, abort 1, abort 2, abort 3" {
+		t.Error(told(l))
+	}
+}
+
 func TestP22_1WhateverTheReplies(t *testing.T) {
 	s := store.New()
 	for _, key := range []string{"b/1", "b/2"} {

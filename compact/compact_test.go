@@ -249,6 +249,21 @@ func TestP20_1BlocksThatArent(t *testing.T) {
 			t.Error("Size or Sum", i, l)
 		}
 	}
+	// The second one is a block of the same size: its Seq has a byte more, its Text one less.
+	swapped := rows(1, 1)
+	swapped[0].Seq, swapped[0].Text = 64, ""
+	for i, l := range [][]api.Row{rows(1, 1, 2), swapped} {
+		a, s := two()
+		other, _ := block.Build(l, 3)
+		if i == 1 && len(other) != len(good) {
+			t.Error("the sizes", len(other), len(good))
+		}
+		s.Do(api.Call{Kind: api.Put, Key: "b/1", Data: other})
+		before := current(s)
+		if k := kinds(round(t, a, s, nil)); !slices.Equal(k, []int{api.Get, api.Get}) || current(s).Gen != before.Gen {
+			t.Error("another block", i, k)
+		}
+	}
 	a, s := two()
 	m := current(s)
 	other := []byte("no block")

@@ -204,15 +204,18 @@ func TestP16_3Examples(t *testing.T) {
 }
 
 func TestP16_3AnyNumbers(t *testing.T) {
-	great := []api.Entry{entry("a", 1, "{}", math.MaxInt-1, 1), entry("b", 1, "{}", math.MaxInt-1, 1)}
-	if got := merge.Choose(great, math.MaxInt, math.MaxInt); len(got) != 0 {
-		t.Error("they don't fit", got)
+	ends := []int{math.MinInt, -1, 0, 1, math.MaxInt}
+	var l []api.Entry
+	for i, rows := range ends {
+		l = append(l, entry(fmt.Sprint("k", i), 1, "{}", rows, 1), entry(fmt.Sprint("l", i), rows, "{", rows, rows))
 	}
-	least := []api.Entry{entry("a", 1, "{}", math.MinInt, 1), entry("b", 1, "{}", math.MinInt, 1), entry("c", 1, "{}", math.MinInt, 1)}
-	if got := merge.Choose(least, 1, math.MinInt); len(got) != 3 {
-		t.Error("they fit", got)
+	for _, small := range ends {
+		for _, most := range ends {
+			if keys := merge.Choose(l, small, most); len(keys) == 1 {
+				t.Error("one alone", small, most, keys)
+			}
+		}
 	}
-	merge.Choose(least, math.MinInt, math.MinInt)
 }
 
 func TestP16_4Entry(t *testing.T) {

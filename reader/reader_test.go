@@ -198,8 +198,11 @@ func TestP23_1WrongPieces(t *testing.T) {
 		s, data, at, e := build()
 		change(data, at)
 		s.Do(api.Call{Kind: api.Put, Key: e.Key, Data: data})
-		got, _ := asks(t, reader.New(conf()), s, all, nil)
+		got, calls := asks(t, reader.New(conf()), s, all, nil)
 		expect(t, fmt.Sprint("a wrong piece ", i), got, api.ErrForm, 7)
+		if want := []int{2, 2, 3, 6, 4}[i]; len(calls) != want {
+			t.Error("it reads on", i, len(calls))
+		}
 	}
 	s, data, _, e := build()
 	data[9] ^= 1

@@ -477,6 +477,14 @@ func TestP24_4Memory(t *testing.T) {
 	do(t, w, ask(5, q), api.OK)
 	q.Match[0].Value = "db"
 	settle(t, w, 5)
+	do(t, w, crash(1), api.OK)
+	do(t, w, start(1), api.OK)
+	do(t, w, submit(1, batch(1, 2, 11)), api.OK)
+	do(t, w, flush(1), api.OK)
+	settle(t, w, 1)
+	if m := w.Manifest(); len(m.Entries) != 2 || m.Entries[1].Part != `{svc="web"}` {
+		t.Error("the configuration is kept", m)
+	}
 	before := snapshot(w)
 	taken, asked, made, m := w.Taken(), w.Asked(), w.Made(), w.Manifest()
 	if taken[0].Batch.Records[0].Labels[0].Value != "web" || asked[0].Q.Match[0].Value != "web" || len(asked[0].Answer.Rows) != 1 || m.Entries[0].Part != `{svc="web"}` {
