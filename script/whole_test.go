@@ -387,7 +387,7 @@ func TestP1ToP7(t *testing.T) {
 		}
 	}
 	for _, what := range []string{"change 1", "change 2", "change 3", "change 4", "answer 0", "ok", "settled"} {
-		if seen[what] < 10 {
+		if seen[what] < runs/8 {
 			t.Error("seldom seen:", what, seen)
 		}
 	}
