@@ -51,35 +51,30 @@ func pieces(t *testing.T, data []byte, piece int) [][]byte {
 	s.Tick(3)
 	u := upload.New("b/1", data, piece, 1, 0)
 	var l [][]byte
-	for i := 0; ; i++ {
+	var kinds []int
+	for {
 		c, ok := u.Next(3)
 		if !ok {
 			break
 		}
-		want := api.Part
-		switch i {
-		case 0:
-			want = api.Create
-		case 1 + max(1, len(l)):
-			if c.Kind == api.Complete {
-				want = api.Complete
-			}
-		}
-		if c.Kind != want {
-			t.Fatal("a call of another kind", i, c.Kind)
-		}
-		if c.Kind == api.Part {
+		kinds = append(kinds, c.Kind)
+		switch c.Kind {
+		case api.Part:
 			l = append(l, c.Data)
 			if c.N != len(l) || c.ID != 1 {
 				t.Fatal("a part's number", c.N, c.ID)
 			}
-		}
-		if c.Kind == api.Complete && (c.N != len(l) || c.ID != 1) {
-			t.Fatal("how many parts", c.N, len(l))
+		case api.Complete:
+			if c.N != len(l) || c.ID != 1 {
+				t.Fatal("how many parts", c.N, len(l))
+			}
 		}
 		if e := u.Take(s.Do(c), 3); e != api.OK {
 			t.Fatal(e)
 		}
+	}
+	if !slices.Equal(kinds, slices.Concat([]int{api.Create}, slices.Repeat([]int{api.Part}, len(l)), []int{api.Complete})) {
+		t.Fatal("other calls", kinds)
 	}
 	if r := s.Do(api.Call{Kind: api.Get, Key: "b/1"}); u.State() != upload.Done || u.Born() != 3 || !bytes.Equal(r.Data, data) {
 		t.Fatal("it isn't done", u.State(), u.Born())
