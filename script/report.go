@@ -23,9 +23,18 @@ func Report(w *world.World) string {
 		lines = append(lines, line("batch", pair(x.Batch.Maker, x.Batch.Seq), "at", pair(x.Agent, x.Life), word(e, told)))
 	}
 	for _, x := range w.Asked() {
-		lines = append(lines, line("query at", pair(x.Agent, x.Life), word(x.Answer.Err, x.Told), strconv.Itoa(len(x.Answer.Rows))))
+		lines = append(lines, line("query at", pair(x.Agent, x.Life), answered(x)))
 	}
 	return strings.Join(lines, "")
+}
+
+// answered is the word of a query, and, as only an answer has rows, how many if it was told.
+func answered(x api.Asked) string {
+	w := word(x.Answer.Err, x.Told)
+	if !x.Told {
+		return w
+	}
+	return w + " " + strconv.Itoa(len(x.Answer.Rows))
 }
 
 // line is words, one behind the other, and a newline.

@@ -230,9 +230,81 @@ func TestP25_1Report(t *testing.T) {
 	m := w.Manifest()
 	want := fmt.Sprintf("gen 3 cut 1 fence %d blocks 0\n", m.Fence) +
 		"batch 1.1 at 1.1 ok\nbatch 1.1 at 1.1 dup\nbatch 0.0 at 1.1 form\nbatch 1.1 at 5.5 dup\nbatch 1.1 at 5.5 busy\nbatch 2.9 at 5.5 big\nbatch 1.2 at 1.1 failed\nbatch 2.3 at 5.5 open\n" +
-		"query at 2.2 ok 1\nquery at 2.2 failed 0\nquery at 2.2 expired 0\nquery at 2.6 open 0\n"
+		"query at 2.2 ok 1\nquery at 2.2 failed 0\nquery at 2.2 expired 0\nquery at 2.6 open\n"
 	if got := script.Report(w); got != want || m.Fence == 0 {
 		t.Errorf("%q, not %q", got, want)
+	}
+}
+
+func TestP25_1ReportOpenQuery(t *testing.T) {
+	b := []byte{0, 10, 0, 0, 0, 0, 11, 2, 0, 0}
+	if s := script.Report(script.Play(script.Decode(b))); s != "gen 0 cut 0 fence 0 blocks 0\nquery at 3.3 open\n" {
+		t.Errorf("begun: %q", s)
+	}
+	w := world.New(wantConf(0), []int{api.Archiver, api.Reader})
+	holds := func(when, want string) {
+		t.Helper()
+		if _, got, _ := strings.Cut(script.Report(w), "\n"); got != want {
+			t.Errorf("%s: %q, not %q", when, got, want)
+		}
+	}
+	do := func(l ...api.Op) {
+		for _, o := range l {
+			w.Do(o)
+		}
+	}
+	all := api.Query{To: api.MaxNum}
+	do(api.Op{Kind: api.Submit, Agent: 1, Batch: wantBatch(0, 0)}, api.Op{Kind: api.Flush, Agent: 1})
+	do(slices.Repeat([]api.Op{{Kind: api.Step, Agent: 1}}, 20)...)
+	told := "batch 1.1 at 1.1 ok\n"
+	do(api.Op{Kind: api.Ask, Agent: 2, Q: all})
+	holds("asked", told+"query at 2.2 open\n")
+	do(api.Op{Kind: api.Step, Agent: 2}, api.Op{Kind: api.Step, Agent: 2})
+	holds("under way", told+"query at 2.2 open\n")
+	do(api.Op{Kind: api.Crash, Agent: 2})
+	holds("down", told+"query at 2.2 open\n")
+	do(api.Op{Kind: api.Start, Agent: 2}, api.Op{Kind: api.Ask, Agent: 2, Q: all})
+	holds("in another life", told+"query at 2.2 open\nquery at 2.3 open\n")
+	do(slices.Repeat([]api.Op{{Kind: api.Step, Agent: 2}}, 20)...)
+	holds("answered", told+"query at 2.2 open\nquery at 2.3 ok 1\n")
+	do(api.Op{Kind: api.Ask, Agent: 2, Q: api.Query{From: 900, To: 901}})
+	do(slices.Repeat([]api.Op{{Kind: api.Step, Agent: 2}}, 20)...)
+	holds("answered without rows", told+"query at 2.2 open\nquery at 2.3 ok 1\nquery at 2.3 ok 0\n")
+}
+
+// asksOften is a run of a world with a reader, which is asked again and again.
+func asksOften(r *rand.Rand) []byte {
+	b := []byte{byte(r.Intn(256)), byte(3 + 8*r.Intn(32))}
+	for range 20 + r.Intn(100) {
+		o := []byte{6, 8, 11, 11, 12, 13, 15, 15, 15, 5}[r.Intn(10)]
+		b = append(b, o, byte(r.Intn(256)), byte(r.Intn(256)), byte(r.Intn(256)))
+	}
+	return b
+}
+
+func TestP25_1ReportQueries(t *testing.T) {
+	r := rand.New(rand.NewSource(4))
+	words := map[api.Errno]string{api.OK: "ok", api.ErrFailed: "failed", api.ErrExpired: "expired"}
+	open, told := 0, 0
+	for range 100 {
+		b := asksOften(r)
+		w := script.Play(script.Decode(b))
+		want := ""
+		for _, x := range w.Asked() {
+			if want += fmt.Sprintf("query at %d.%d ", x.Agent, x.Life); x.Told {
+				want += fmt.Sprintf("%s %d\n", words[x.Answer.Err], len(x.Answer.Rows))
+				told++
+			} else {
+				want += "open\n"
+				open++
+			}
+		}
+		if got := script.Report(w); !strings.HasSuffix(got, want) || strings.Count(got, "query at ") != len(w.Asked()) {
+			t.Fatalf("% x: %q, not %q", b, got, want)
+		}
+	}
+	if open == 0 || told == 0 {
+		t.Error("both are to be seen", open, told)
 	}
 }
 
